@@ -1,0 +1,1 @@
+"""Samereading: do all readings of an expression return the same value?"""
