@@ -38,6 +38,12 @@ def reached(library, source):
     return tuple(sorted({kinds[-1] for _, kinds in chains_from(library, source)}))
 
 
+def chain_end(library, source, chain):
+    """The kind to which a chain leads from a kind."""
+    targets = {item[1]: item[3] for item in library[1] if item[0] == "conversion"}
+    return targets[chain[-1]] if chain else source
+
+
 def follow(library, chain, value):
     """The value to which a chain leads from a value."""
     tables = {item[1]: item[5] for item in library[1] if item[0] == "conversion"}
@@ -58,3 +64,37 @@ def is_chain(library, source, value):
             return False
         kinds = kinds + (targets[0],)
     return True
+
+
+def chains_by_end(library, source):
+    """A dict of the kinds to which chains lead from a kind, each with the list of these chains in their order."""
+    found = {}
+    for chain, kinds in chains_from(library, source):
+        found.setdefault(kinds[-1], []).append(chain)
+    return found
+
+
+def longer_ends(steps, ends):
+    """The ends of the chains that are longer by one conversion, each with one such chain."""
+    found = {}
+    for (kinds, kind, value), chain in ends.items():
+        for name, source, target, table in steps:
+            if source == kind and target not in kinds:
+                end = (tuple(sorted(kinds + (target,))), target, table[value])
+                found.setdefault(end, chain + (name,))
+    return found
+
+
+def ends_of(library, source, value):
+    """A dict of the typed values to which chains lead from a value of a kind, each with one such chain."""
+    rows = [item[1:] for item in library[1] if item[0] == "conversion"]
+    steps = [(name, start, target, table) for name, start, target, is_implicit, table in rows if is_implicit]
+    found = {(source, value): ()}
+    # How a chain can go on depends on its kinds, in whatever order, and on its end: there may be thousands of
+    # chains, but there are few of these.
+    ends = {((source,), source, value): ()}
+    for _ in range(library[2]):
+        ends = longer_ends(steps, ends)
+        for (_, kind, end), chain in ends.items():
+            found.setdefault((kind, end), chain)
+    return found

@@ -22,7 +22,7 @@ def is_node(library, input_kinds, value):
 
 
 def below(node):
-    """The expressions directly below a node, from the left."""
+    """The expressions directly below a node, or the readings directly below a reading, from the left."""
     if node[0] == "call":
         return node[2]
     if node[0] == "cast":
@@ -53,6 +53,23 @@ def levels(expression):
         found.append(level)
         level = [child for node in level for child in below(node)]
     return found
+
+
+def laid_out(root):
+    """The nodes of an expression or of a reading, as rows (node, places of the rows of the nodes directly below).
+
+    Each node stands ahead of those below it, and these stand from the left to the right.
+    """
+    rows = []
+    waiting = [(root, None)]
+    while waiting:
+        node, above = waiting.pop()
+        here = len(rows)
+        rows.append((node, []))
+        if above is not None:
+            rows[above][1].append(here)
+        waiting.extend([(child, here) for child in reversed(below(node))])
+    return rows
 
 
 def size(expression):

@@ -3,9 +3,15 @@ import inspect
 import unittest
 
 from samereading.chains import chains, follow, is_chain, reached
-from samereading.errors import BadItem
+from samereading.clashes import clash, clash_size, derived_pair, row_sizes, shows_clash, unfolded
+from samereading.errors import BadItem, DifferentKinds, NoNumber
 from samereading.expressions import height, inputs_used, is_expression, operators_used, size, substituted
 from samereading.library import extended, is_item, is_kinds, is_library, part, renamed
+from samereading.local import local_agree, local_clash
+from samereading.readings import (
+    kinds_of, reading_at, reading_count, reading_kind, reading_number, results, value_of,
+)
+from samereading.relation import agree, agreement, coherent, is_closed, pair_clashes, pairs, shows_agreement
 from tests.samples import KINDS, ONES, SUM, WIDE, WIDEN
 
 PARAMETERS = {
@@ -31,7 +37,48 @@ PARAMETERS = {
         'inputs_used': ['expression'],
         'substituted': ['expression', 'arguments'],
     },
+    'readings': {
+        'kinds_of': ['library', 'input_kinds', 'expression'],
+        'reading_count': ['library', 'input_kinds', 'expression', 'target'],
+        'reading_at': ['library', 'input_kinds', 'expression', 'target', 'number'],
+        'reading_kind': ['library', 'input_kinds', 'expression', 'value'],
+        'reading_number': ['library', 'input_kinds', 'expression', 'reading'],
+        'value_of': ['library', 'input_kinds', 'expression', 'reading', 'inputs'],
+        'results': ['library', 'input_kinds', 'expression', 'target', 'inputs'],
+    },
+    'relation': {
+        'pairs': ['one', 'other'],
+        'is_closed': ['one', 'other', 'value'],
+        'pair_clashes': ['one', 'other', 'pair'],
+        'agree': ['one', 'other'],
+        'coherent': ['library'],
+        'agreement': ['one', 'other'],
+        'shows_agreement': ['one', 'other', 'value'],
+    },
+    'clashes': {
+        'derived_pair': ['one', 'other', 'value'],
+        'shows_clash': ['one', 'other', 'value'],
+        'clash': ['one', 'other'],
+        'clash_size': ['one', 'other'],
+        'row_sizes': ['derivation'],
+        'unfolded': ['one', 'other', 'clash'],
+    },
+    'local': {
+        'local_agree': ['one', 'other'],
+        'local_clash': ['one', 'other'],
+    },
 }
+
+TASK = {'library': WIDE, 'input_kinds': ('bit', 'bit'), 'expression': SUM}
+NARROW = ('call', ('bit', 'bit', 'bit'), (('input', ()), ('input', ())), ('widen',))
+EMPTY = (KINDS, (), 0)
+EQUAL = tuple([((kind, value), (kind, value)) for kind, count in KINDS for value in range(count)])
+ROWS = (
+    ('input', 'bit', 1),
+    ('call', 'add', ('int', 'int', 'int'), ('bit', 'bit', 'bit'), ((0, ('widen',), ()), (0, ('widen',), ()))),
+)
+BOTH = {'one': WIDE, 'other': WIDE}
+APART = {'one': WIDE, 'other': EMPTY}
 
 
 class InterfaceTest(unittest.TestCase):
@@ -63,6 +110,28 @@ class InterfaceTest(unittest.TestCase):
             (operators_used, {'expression': SUM}, ('add',)),
             (inputs_used, {'expression': SUM}, (0, 1)),
             (substituted, {'arguments': (SUM,), 'expression': ('input', 0)}, SUM),
+            (kinds_of, TASK, ('bit', 'int')),
+            (reading_count, {'target': 'int', **TASK}, 2),
+            (reading_at, {'number': 1, 'target': 'int', **TASK}, NARROW),
+            (reading_kind, {'value': NARROW, **TASK}, 'int'),
+            (reading_number, {'reading': NARROW, **TASK}, 1),
+            (value_of, {'inputs': (1, 0), 'reading': NARROW, **TASK}, 1),
+            (results, {'inputs': (1, 1), 'target': 'int', **TASK}, (0, 2)),
+            (pairs, APART, EQUAL),
+            (is_closed, {'value': EQUAL, **APART}, True),
+            (pair_clashes, {'pair': (('bit', 0), ('int', 1)), **APART}, True),
+            (pair_clashes, {'pair': (('int', 0), ('bit', 1)), **APART}, False),
+            (agree, APART, True),
+            (coherent, {'library': WIDE}, False),
+            (agreement, APART, EQUAL),
+            (shows_agreement, {'value': EQUAL, **APART}, True),
+            (derived_pair, {'value': ROWS, **BOTH}, (('int', 2), ('bit', 0))),
+            (shows_clash, {'value': (ROWS, (), ('widen',)), **BOTH}, True),
+            (clash, APART, None),
+            (clash_size, BOTH, 3),
+            (row_sizes, {'derivation': ROWS}, (1, 3)),
+            (local_agree, BOTH, False),
+            (local_clash, APART, None),
         )
         for function, values, expected in calls:
             backwards = dict(reversed(list(values.items())))
@@ -70,10 +139,24 @@ class InterfaceTest(unittest.TestCase):
                 self.assertEqual(function(**values), expected)
                 self.assertEqual(function(**backwards), expected)
 
+    def test_clashes_by_name_in_any_order(self):
+        found = (('bit', 'bit'), SUM, ('call', ('int',) * 3, (('input', ('widen',)),) * 2, ()), NARROW, (1, 1))
+        self.assertEqual(unfolded(clash=(ROWS, (), ('widen',)), other=WIDE, one=WIDE), found)
+        turned = (KINDS, (WIDEN, ('definition', 'no', ('bit',), 'bit', (1, 0))), 1)
+        other = (KINDS, (('definition', 'no', ('bit',), 'int', (2, 2)),), 1)
+        for function in (clash, local_clash):
+            self.assertEqual(function(other=other, one=turned), function(turned, other))
+            self.assertNotEqual(function(other=turned, one=other), function(turned, other))
+
     def test_error_by_name(self):
         with self.assertRaises(BadItem) as found:
             extended(item=WIDEN, library=WIDE)
         self.assertEqual(found.exception.item, WIDEN)
+        with self.assertRaises(NoNumber) as found:
+            reading_at(number=2, target='int', **TASK)
+        self.assertEqual(found.exception.value, 2)
+        with self.assertRaises(DifferentKinds):
+            shows_clash(value=None, other=(KINDS[:1], (), 0), one=WIDE)
 
     def test_equal_but_not_identical_arguments(self):
         again = (tuple([tuple([''.join(list(name)), count]) for name, count in KINDS]), tuple(list(ONES)), 1)
