@@ -127,10 +127,15 @@ def part(library, places):
     return (kinds, tuple([items[place] for place in places]), limit)
 
 
+def with_item(library, item):
+    """What the library would be with any value as a further, last item."""
+    kinds, items, limit = library
+    return (kinds, items + (item,), limit)
+
+
 def extended(library, item):
     """The library with the item as a further, last one."""
-    kinds, items, limit = library
-    longer = (kinds, items + (item,), limit)
+    longer = with_item(library, item)
     if not is_library(longer):
         raise BadItem(item)
     return longer

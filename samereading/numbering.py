@@ -23,7 +23,7 @@ class Numbering:
     """Counts and numbers the readings of all nodes of an expression; the root is the node at place 0."""
 
     def __init__(self, library, input_kinds, expression):
-        self.library = library
+        self.whole = library
         self.rows = laid_out(expression)
         self.options = [node_choices(library, input_kinds, node) for node, _ in self.rows]
         self.chains = {kind: chains_by_end(library, kind) for kind, _ in library[0]}
@@ -108,7 +108,7 @@ class Numbering:
     def number_at(self, at, label, inner, chain):
         """The number of the reading of the node at a place whose arguments have these numbers."""
         option = chosen(self.options[at], label)
-        target = chain_end(self.library, option[2], chain)
+        target = chain_end(self.whole, option[2], chain)
         number = 0
         for many, place in zip(self.below(at, option), inner):
             number = number * many + place

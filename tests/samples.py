@@ -81,6 +81,21 @@ def spoiled(value):
     return with_wrong(value) + with_list(value) + with_truth(value)
 
 
+def other_shapes(inner):
+    """The inner value wrapped, and a tuple with one of its parts left out or repeated, or turned round."""
+    found = [(inner,), [inner], {0: inner}]
+    if isinstance(inner, tuple):
+        found.extend([inner[:at] + inner[at + 1:] for at in range(len(inner))])
+        found.extend([inner[:at] + inner[at:at + 1] + inner[at:] for at in range(len(inner))])
+        found.append(inner[::-1])
+    return found
+
+
+def reshaped(value):
+    """The value with parts left out, repeated, wrapped or turned round at one place; some may still be valid."""
+    return variants(value, other_shapes)
+
+
 def cast_chain(depth):
     """An expression of one input under casts, nested so deep."""
     value = ('input', 0)
@@ -116,6 +131,16 @@ class Checked(unittest.TestCase):
         self.assertEqual(before, repr(values))
         self.assertEqual(repr(first), repr(second))
         return first
+
+    def assert_error(self, error, kept, function, *values):
+        """The call raises this very error, which keeps these arguments, each time, and leaves its own alone."""
+        before = repr(values)
+        for _ in range(2):
+            with self.assertRaises(error) as found:
+                function(*values)
+            self.assertIs(type(found.exception), error)
+            self.assertEqual(repr(vars(found.exception)), repr(kept))
+        self.assertEqual(before, repr(values))
 
     def assert_true(self, function, *values):
         self.assertIs(self.call(function, *values), True, repr(values))

@@ -112,3 +112,31 @@ def some_overloads(many, seed):
                 items += (item,)
         found.append((kinds, items, 0))
     return found
+
+
+def some_busy_libraries(many, seed, most=8):
+    """Libraries of few kinds with many items: more of them have clashes, and several at once."""
+    source = random.Random(seed)
+    found = []
+    for _ in range(many):
+        kinds = (('a', 2), ('b', 2), ('c', 1))[:source.randint(2, 3)]
+        items = ()
+        for number in range(source.randint(3, most)):
+            item = some_item(source, kinds, number)
+            if is_library((kinds, items + (item,), 0)):
+                items += (item,)
+        found.append((kinds, items, source.randint(0, 4)))
+    return found
+
+
+def some_expression(source, library, input_kinds, levels):
+    """An expression for a library, nested at most so deep, often with the operators of the library."""
+    choice = source.random()
+    if input_kinds and (levels == 1 or choice < 0.25):
+        return ('input', source.randrange(len(input_kinds)))
+    if levels > 1 and choice < 0.4:
+        return ('cast', source.choice(library[0])[0], some_expression(source, library, input_kinds, levels - 1))
+    rows = [(item[1], len(item[2])) for item in library[1] if item[0] == 'definition'] + [('no', 0), ('f', 3)]
+    operator, length = source.choice(rows)
+    inner = [some_expression(source, library, input_kinds, levels - 1) for _ in range(length if levels > 1 else 0)]
+    return ('call', operator, tuple(inner))

@@ -4,15 +4,19 @@ import unittest
 
 from samereading.chains import chains, follow, is_chain, reached
 from samereading.clashes import clash, clash_size, derived_pair, row_sizes, shows_clash, unfolded
-from samereading.errors import BadItem, DifferentKinds, NoNumber
+from samereading.errors import BadItem, BadKinds, BadText, DifferentKinds, NoNumber, NoPlace
 from samereading.expressions import height, inputs_used, is_expression, operators_used, size, substituted
 from samereading.library import extended, is_item, is_kinds, is_library, part, renamed
 from samereading.local import local_agree, local_clash
+from samereading.parts import conservative, core, cores, is_core, kept, repairs
 from samereading.readings import (
     kinds_of, reading_at, reading_count, reading_kind, reading_number, results, value_of,
 )
+from samereading.registry import Registry
 from samereading.relation import agree, agreement, coherent, is_closed, pair_clashes, pairs, shows_agreement
-from tests.samples import KINDS, ONES, SUM, WIDE, WIDEN
+from samereading.session import Session
+from samereading.texts import read_expression, read_item, read_library, show_expression, show_item, show_library
+from tests.samples import ADDB, KINDS, ONES, SUM, WIDE, WIDEN
 
 PARAMETERS = {
     'library': {
@@ -67,6 +71,42 @@ PARAMETERS = {
         'local_agree': ['one', 'other'],
         'local_clash': ['one', 'other'],
     },
+    'parts': {
+        'kept': ['library', 'order'],
+        'core': ['library'],
+        'is_core': ['library', 'places'],
+        'cores': ['library'],
+        'repairs': ['library'],
+        'conservative': ['library', 'item'],
+    },
+    'texts': {
+        'show_library': ['library'],
+        'show_item': ['item'],
+        'show_expression': ['expression'],
+        'read_library': ['text'],
+        'read_item': ['kinds', 'text'],
+        'read_expression': ['library', 'input_kinds', 'text'],
+    },
+}
+
+METHODS = {
+    Registry: {
+        '__init__': ['self', 'kinds', 'limit'],
+        'library': ['self'],
+        '__len__': ['self'],
+        '__eq__': ['self', 'other'],
+        'accepts': ['self', 'item'],
+        'add': ['self', 'item'],
+        'offer': ['self', 'items'],
+        'remove': ['self', 'place'],
+        'undo': ['self'],
+        'changes': ['self'],
+        'copy': ['self'],
+    },
+    Session: {
+        '__init__': ['self', 'text'],
+        'run': ['self', 'line'],
+    },
 }
 
 TASK = {'library': WIDE, 'input_kinds': ('bit', 'bit'), 'expression': SUM}
@@ -91,6 +131,15 @@ class InterfaceTest(unittest.TestCase):
                 self.assertTrue(inspect.isfunction(function), word)
                 self.assertEqual(function.__module__, 'samereading.' + name)
                 self.assertEqual(list(inspect.signature(function).parameters), parameters)
+
+    def test_classes_stand_in_their_files_with_all_of_their_methods(self):
+        for owner, file in ((Registry, 'registry'), (Session, 'session')):
+            self.assertEqual(owner.__module__, 'samereading.' + file)
+            self.assertEqual(owner.__bases__, (object,))
+            for word, parameters in METHODS[owner].items():
+                self.assertIn(word, vars(owner))
+                self.assertEqual(list(inspect.signature(vars(owner)[word]).parameters), parameters)
+        self.assertEqual(inspect.signature(Registry).parameters['limit'].default, 1)
 
     def test_arguments_by_name_in_any_order(self):
         calls = (
@@ -132,6 +181,18 @@ class InterfaceTest(unittest.TestCase):
             (row_sizes, {'derivation': ROWS}, (1, 3)),
             (local_agree, BOTH, False),
             (local_clash, APART, None),
+            (kept, {'order': (2, 1, 0), 'library': WIDE}, (1, 2)),
+            (core, {'library': WIDE}, (0, 1, 2)),
+            (is_core, {'places': (0, 1, 2), 'library': WIDE}, True),
+            (cores, {'library': WIDE}, ((0, 1, 2),)),
+            (repairs, {'library': WIDE}, ((0,), (1,), (2,))),
+            (conservative, {'item': ADDB, 'library': part(WIDE, (0, 1))}, False),
+            (show_library, {'library': EMPTY}, 'limit 0\nkind bit 2\nkind int 4'),
+            (show_item, {'item': WIDEN}, 'implicit widen bit int 0,1'),
+            (show_expression, {'expression': SUM}, 'add(#0, #1)'),
+            (read_library, {'text': 'limit 0\nkind bit 2\nkind int 4'}, EMPTY),
+            (read_item, {'text': 'implicit widen bit int 0,1', 'kinds': KINDS}, WIDEN),
+            (read_expression, {'text': 'add(#0, #1)', 'input_kinds': ('bit', 'int'), 'library': WIDE}, SUM),
         )
         for function, values, expected in calls:
             backwards = dict(reversed(list(values.items())))
@@ -157,6 +218,23 @@ class InterfaceTest(unittest.TestCase):
         self.assertEqual(found.exception.value, 2)
         with self.assertRaises(DifferentKinds):
             shows_clash(value=None, other=(KINDS[:1], (), 0), one=WIDE)
+
+    def test_methods_by_name(self):
+        registry = Registry(limit=2, kinds=KINDS)
+        self.assertIs(registry.accepts(item=WIDEN), True)
+        self.assertIsNone(registry.add(item=WIDEN))
+        self.assertEqual(registry.offer(items=(WIDEN, ADDB)), (False, True))
+        self.assertEqual(registry.remove(place=0), WIDEN)
+        self.assertEqual(registry.library(), (KINDS, (ADDB,), 2))
+        with self.assertRaises(NoPlace) as found:
+            registry.remove(place=1)
+        self.assertEqual(found.exception.value, 1)
+        with self.assertRaises(BadKinds):
+            Registry(limit=None, kinds=None)
+        session = Session(text='limit 0\nkind bit 2')
+        self.assertEqual(session.run(line='show'), 'limit 0 / kind bit 2')
+        with self.assertRaises(BadText):
+            Session(text=None)
 
     def test_equal_but_not_identical_arguments(self):
         again = (tuple([tuple([''.join(list(name)), count]) for name, count in KINDS]), tuple(list(ONES)), 1)

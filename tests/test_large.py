@@ -6,7 +6,11 @@ import unittest
 from samereading.clashes import clash, clash_size, row_sizes, shows_clash
 from samereading.library import is_library
 from samereading.local import local_agree, local_clash
+from samereading.parts import core, cores, is_core, kept, repairs
+from samereading.registry import Registry
 from samereading.relation import agree, agreement, coherent, is_closed, pairs, shows_agreement
+from samereading.session import Session
+from samereading.texts import read_library, show_library
 
 LETTERS = 'abcdef'
 KINDS = tuple([(letter, 8) for letter in LETTERS])
@@ -106,3 +110,56 @@ class LargeTest(unittest.TestCase):
         source = random.Random(76)
         other = (KINDS_OF_FOUR, ternary(lambda x, y, z: x + y + z + 2 * source.randrange(2)), 4)
         self.assertEqual(self.assert_all_functions_end(one, other)[1], 4)
+
+
+class LargePartsTest(unittest.TestCase):
+
+    def assert_all_functions_end(self, library):
+        self.assertIs(is_library(library), True)
+        everything = tuple(range(30))
+        found = kept(library, everything)
+        least = core(library)
+        self.assertEqual(least is None, found == everything)
+        if least is not None:
+            self.assertIs(is_core(library, least), True)
+        registry = Registry(library[0], library[2])
+        self.assertEqual(registry.offer(library[1]), tuple([at in found for at in everything]))
+        text = show_library(library)
+        self.assertEqual(read_library(text), library)
+        self.assertEqual(Session(text).run('show'), show_library(registry.library()).replace('\n', ' / '))
+        self.assert_ten_items(library[:1] + (library[1][::3],) + library[2:])
+        self.assert_ten_items(library[:1] + (library[1][10:20],) + library[2:])
+        return len(found)
+
+    def assert_ten_items(self, library):
+        self.assertEqual(len(library[1]), 10)
+        found = cores(library)
+        self.assertEqual(found == (), coherent(library))
+        for missing in repairs(library):
+            self.assertTrue(all([set(missing) & set(this) for this in found]))
+            left = tuple([place for place in range(10) if place not in missing])
+            self.assertEqual(kept(library, left + missing), left)
+
+    def test_sums(self):
+        self.assertEqual(self.assert_all_functions_end((KINDS, definitions(30, lambda x, y: x + y), 4)), 30)
+
+    def test_tables_without_order(self):
+        source = random.Random(77)
+        library = (KINDS, definitions(30, lambda x, y: source.randrange(8)), 4)
+        self.assertGreater(self.assert_all_functions_end(library), 5)
+
+    def test_conversions(self):
+        source = random.Random(78)
+        for is_implicit in (True, False):
+            self.assert_all_functions_end((KINDS, conversions(is_implicit, lambda value: source.randrange(8)), 4))
+        self.assertEqual(self.assert_all_functions_end((KINDS, conversions(True, lambda value: value), 4)), 30)
+
+    def test_conversions_and_definitions(self):
+        source = random.Random(79)
+        steps = conversions(True, lambda value: value)[::2]
+        library = (KINDS, steps + definitions(15, lambda x, y: x + y + 2 * source.randrange(2)), 4)
+        self.assertGreater(self.assert_all_functions_end(library), 15)
+
+    def test_three_parameters(self):
+        library = (KINDS_OF_FOUR, ternary(lambda x, y, z: x + y + z), 4)
+        self.assertEqual(self.assert_all_functions_end(library), 30)
